@@ -1,0 +1,1 @@
+"""Livehall: a hall of things whose kinds are changed while they live."""
