@@ -78,17 +78,21 @@ def is_body(thing):
     return True
 
 
-def leaves_in(body, wanted):
-    """All leaves of the wanted sort in a body, rising, each once."""
-    found = []
+def parts_in(body):
+    """All parts of a body, itself too, each as (sort, part)."""
+    met = []
     waiting = [("body", body)]
     while waiting:
         sort, part = waiting.pop()
-        if sort == wanted:
-            found.append(part)
+        met.append((sort, part))
         if sort not in LEAVES:
             waiting.extend(parts_of(sort, part))
-    return tuple(sorted(set(found)))
+    return met
+
+
+def leaves_in(body, wanted):
+    """All leaves of the wanted sort in a body, rising, each once."""
+    return tuple(sorted({part for sort, part in parts_in(body) if sort == wanted}))
 
 
 def kinds_in(body):
@@ -99,3 +103,30 @@ def kinds_in(body):
 def asked_in(body):
     """The words that the body asks, by elder too, rising, each once."""
     return leaves_in(body, "word")
+
+
+def asked_of_self(body):
+    """The words that the body asks with `("self",)` as the asked."""
+    es = [part for sort, part in parts_in(body) if sort == "e"]
+    return [e[2] for e in es if e[0] == "ask" and e[1][0] == "self"]
+
+
+def renamed(body, wanted, names):
+    """The body, its leaves of the wanted sort being called as names tells, where it tells of them."""
+    built = []
+    waiting = [("body", body)]
+    while waiting:
+        sort, part = waiting.pop()
+        if sort == "close":
+            joined = tuple(built[len(built) - part:])
+            del built[len(built) - part:]
+            built.append(joined)
+        elif sort == wanted:
+            built.append(names.get(part, part))
+        elif sort in LEAVES or sort == "head":
+            built.append(part)
+        else:
+            head = [] if sort in MANY else [("head", part[0])]
+            waiting.append(("close", len(part)))
+            waiting.extend((head + parts_of(sort, part))[::-1])
+    return built[0]
