@@ -163,6 +163,14 @@ class Halts(RunsTest):
             self.same((hall.state(run), hall.waits(run), hall.frames(run)), (told, None, ()))
         self.same((hall.get(thing, "size"), hall.runs()), (0, (done, failed)))
 
+    def test_nothing_is_told_of_ways_that_a_fault_has_ended(self):
+        hall = self.hall
+        self.way("box", "inner", ("do", field("nay")))
+        run, thing = self.start(("do", ("same", ("new", "cup"), ask(ME, "inner"))))
+        self.same(hall.go(run, beats=2), ("failed", "no field nay"))
+        self.same((hall.waits(run), hall.frames(run)), (None, ()))
+        self.same(hall.sweep(), (0, 1))
+
     def test_runs_take_turns(self):
         hall = self.hall
         self.way("box", "act", ("put", "size", val(0)),

@@ -140,6 +140,20 @@ class RunsLead(SweepTest):
         self.same(self.hall.waits(run), ("ask", ("thing", 1), "act", (one,)))
         self.leads(one, (("run", run, one),))
 
+    def test_what_was_given_at_depth(self):
+        self.way("box", "inner", ("let", "b", val(1)), ("while", val(True), ()), names=("b",))
+        run = self.halted(("do", ask(ME, "inner", ("new", "bag"))), beats=2)
+        made = ("thing", self.hall.things()[-1])
+        self.leads(made, (("run", run, made),))
+        self.hall.redo(run)
+        self.same(self.hall.waits(run)[3], (made,))
+
+    def test_the_asked_ones_at_depth(self):
+        self.way("bag", "inner", ("while", val(True), ()))
+        run = self.halted(("do", ask(("new", "bag"), "inner")), beats=2)
+        made = ("thing", self.hall.things()[-1])
+        self.leads(made, (("run", run, made),))
+
     def test_names(self):
         run = self.halted(("let", "a", ("new", "box")), ("while", val(True), ()))
         made = dict(self.hall.frames(run)[0][3])["a"]

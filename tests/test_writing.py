@@ -238,6 +238,12 @@ class NoHalls(unittest.TestCase):
             no_text(self, read_hall, "?" + line + "\n")
             no_text(self, read_hall, "('sweep' ())\n" + line + "\n('sweep' ())\n")
 
+    def test_lines_deeper_than_calls(self):
+        deep = "(" * 50000 + ")" * 50000
+        for line in [deep, "(" + deep + " ())", "('make' " + deep + ")", "('make' (" + deep + "))",
+                     "('hold' ('a' " + deep + "))", "('go' (" + deep + " 1))", "('make_kind' ('a' 'thing' " + deep + " ()))"]:
+            no_text(self, read_hall, line + "\n")
+
     def test_deeds_with_things_of_other_kinds(self):
         begin = "('make_kind' ('box' 'thing' ('a' 'b') ()))\n('make' ('box'))\n('start' (1 'act' ()))\n"
         self.assertEqual(read_hall(begin).counts(), (3, 0))
